@@ -1,0 +1,1 @@
+"""Fankinds: what holds in every house that ends."""
