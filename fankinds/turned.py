@@ -1,0 +1,74 @@
+"""Turned rules: what a ring of product 1 turns about, and the long rows made of it."""
+
+from fankinds.bare import living
+from fankinds.finders import finder
+from fankinds.forms import is_tuple_of
+from fankinds.ratios import ONE
+from fankinds.rings import is_ring, product
+from fankinds.steps import rule_step
+
+
+def right_long(book, low, high, thing):
+    """Whether anything is a long row from low to high."""
+    if not isinstance(thing, tuple):
+        return False
+    here = low
+    for link in thing:
+        if not is_link(book, link) or link[1] != here:
+            return False
+        here = link[2]
+    return here == high
+
+
+def is_link(book, thing):
+    """Whether anything is a rule's link or a turned one."""
+    if is_tuple_of(thing, 3) and thing[0] == "rule":
+        return thing[1:] in book[1]
+    if is_tuple_of(thing, 4) and thing[0] == "turned":
+        return turns(book, thing[2], thing[1], thing[3])
+    return False
+
+
+def turns(book, low, high, ring):
+    """Whether (low, high) is a rule and the ring, of product 1, has its step; all may be anything."""
+    if (low, high) not in book[1] or not is_ring(book, ring):
+        return False
+    return rule_step(book, low, high) in ring and product(book, ring) == ONE
+
+
+def long_row(book, low, high):
+    """A long row of fewest links from low, which is living, to high; None where there is none."""
+    return long_rows(book, low).get(high)
+
+
+def lot_of(book, kind):
+    """All kinds to which long rows lead from the kind, which is living, rising."""
+    return tuple(sorted(long_rows(book, kind)))
+
+
+def long_rows(book, low):
+    """For each kind to which long rows lead from low, which is living, one of fewest links."""
+    links = links_of(book)
+    rows = {low: ()}
+    last = [low]
+    while last:
+        fresh = []
+        for link in [known for here in last for known in links if known[1] == here]:
+            if link[2] not in rows:
+                rows[link[2]] = rows[link[1]] + (link,)
+                fresh.append(link[2])
+        last = fresh
+    return rows
+
+
+def links_of(book):
+    """The rules' links and the turned ones between living kinds."""
+    seeker = finder(book)
+    # A ring of product 1 with one living kind has living kinds only, and within these none is below 1.
+    lot = living(book)
+    links = [("rule", low, high) for low, high in book[1]]
+    for low, high in book[1]:
+        ring = seeker.even(lot, rule_step(book, low, high))
+        if ring is not None:
+            links.append(("turned", high, low, ring))
+    return links
