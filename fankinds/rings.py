@@ -26,6 +26,11 @@ def product(book, ring):
     return ratio
 
 
+def is_even(book, thing):
+    """Whether anything is a ring of product 1."""
+    return is_ring(book, thing) and product(book, thing) == ONE
+
+
 def rings_of(book):
     """All rings whose first step's one is the least of their ones, rising."""
     steps = steps_of(book)

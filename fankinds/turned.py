@@ -3,8 +3,8 @@
 from fankinds.bare import living
 from fankinds.finders import finder
 from fankinds.forms import is_tuple_of
-from fankinds.ratios import ONE
-from fankinds.rings import is_ring, product
+from fankinds.rings import is_even
+from fankinds.rows import rows_by, rule_links
 from fankinds.steps import rule_step
 
 
@@ -31,9 +31,7 @@ def is_link(book, thing):
 
 def turns(book, low, high, ring):
     """Whether (low, high) is a rule and the ring, of product 1, has its step; all may be anything."""
-    if (low, high) not in book[1] or not is_ring(book, ring):
-        return False
-    return rule_step(book, low, high) in ring and product(book, ring) == ONE
+    return (low, high) in book[1] and is_even(book, ring) and rule_step(book, low, high) in ring
 
 
 def long_row(book, low, high):
@@ -48,17 +46,7 @@ def lot_of(book, kind):
 
 def long_rows(book, low):
     """For each kind to which long rows lead from low, which is living, one of fewest links."""
-    links = links_of(book)
-    rows = {low: ()}
-    last = [low]
-    while last:
-        fresh = []
-        for link in [known for here in last for known in links if known[1] == here]:
-            if link[2] not in rows:
-                rows[link[2]] = rows[link[1]] + (link,)
-                fresh.append(link[2])
-        last = fresh
-    return rows
+    return rows_by(links_of(book), low)
 
 
 def links_of(book):
@@ -66,7 +54,7 @@ def links_of(book):
     seeker = finder(book)
     # A ring of product 1 with one living kind has living kinds only, and within these none is below 1.
     lot = living(book)
-    links = [("rule", low, high) for low, high in book[1]]
+    links = rule_links(book)
     for low, high in book[1]:
         ring = seeker.even(lot, rule_step(book, low, high))
         if ring is not None:

@@ -6,10 +6,15 @@ import unittest
 
 from fankinds.bare import bare_by, bare_paper, living, right_bare
 from fankinds.books import fan_of, is_book
+from fankinds.dealing import dealt
+from fankinds.errors import NoneStand
 from fankinds.finders import ByRounds, Finder, Plainly, finder
 from fankinds.forms import is_fan, is_lot, is_name
 from fankinds.houses import counts, is_house, wrong_in
+from fankinds.least import least, next_number, raised, raises_to, right_raises
+from fankinds.numbers import stands
 from fankinds.rings import is_ring, product, rings_of
+from fankinds.rows import above, is_row, row_to
 from fankinds.steps import steps_of
 from fankinds.turned import long_row, lot_of, right_long
 from tests.samples import all_tuples, balanced_books, nested, odd_things, random_books, subsets
@@ -30,14 +35,21 @@ JUDGES = {
     "is_ring": lambda thing: is_ring(BOOK, thing),
     "right_bare": lambda thing: right_bare(BOOK, thing),
     "right_long": lambda thing: right_long(BOOK, "a", "b", thing),
+    "is_row": lambda thing: is_row(BOOK, "a", "c", thing),
+    "right_raises": lambda thing: right_raises(BOOK, (1, 0, 0, 2), thing),
 }
+# Right raises, though none of the kinds are living and no numbers stand.
+RAISES = (
+    ("a", 1, ("told",)), ("b", 1, ("rule", "a")), ("b", 2, ("out", "x")), ("c", 2, ("rule", "b")), ("d", 2, ("told",)),
+    ("d", 4, ("some", "out", "y")), ("a", 2, ("into", "z")), ("d", 6, ("out", "y")),
+)
 
 
 def random_thing(rand, deep):
     """Anything, drawn by chance, often near to what is right."""
     if deep == 0 or rand.random() < 0.2:
         return rand.choice([None, True, False, 0, 1, 2, 3, 4, -1, 10 ** 29, "", "a", "b", "c", "x", "out", "into", "rule", "ring",
-                            "follow", "turned", "A b\n"])
+                            "follow", "turned", "told", "some", "A b\n"])
     parts = [random_thing(rand, deep - 1) for _ in range(rand.randint(0, 5))]
     make = rand.random()
     if make < 0.75:
@@ -68,6 +80,7 @@ def right_things():
     house = ((("a", "b", "c", "d"), ("d",)), (("x", 0, 0), ("y", 1, 1)))
     told = [BOOK, house, bare_paper(BOOK), steps_of(BOOK), rings_of(BOOK), (("rule", "a", "b"),), ("a", "b"), (1, 2)]
     told += [("turned", "b", "a", (0, 1, 2)), (("rule", "a", "b"), ("turned", "b", "a", (0, 1, 2)), ("rule", "a", "b"))]
+    told += [("a", "b", "c"), ("a",), RAISES, (1, 0, 0, 2)]
     return told + list(rings_of(BOOK))
 
 
@@ -125,11 +138,26 @@ def all_told(book, house):
     told.append(bare_by(book, bare_paper(book)))
     told += [lot_of(book, kind) for kind in living(book)]
     told += [long_row(book, low, high) for low in living(book) for high in book[0]]
+    told += [above(book, low) for low in book[0]] + [row_to(book, low, high) for low in book[0] for high in book[0]]
+    told += [dealt(tuple(range(9)), tuple(range(7, 16)), door[3], door[3]) for door in book[2]]
+    told += numbers_told(book)
     for seeker in (Finder(book), Plainly(book), ByRounds(book), finder(book)):
         for lot in subsets(book[0]):
             told += [seeker.below(lot), seeker.below(lot)]
             if Plainly(book).below(lot) is None:
                 told += [seeker.even(lot, step) for step in range(len(steps_of(book)))]
+    return told
+
+
+def numbers_told(book):
+    """All that is asked of told numbers, with its answers."""
+    told = [next_number(book, kind, n) for kind in book[0] for n in (0, 1, 7)]
+    for numbers in ((0,) * len(book[0]), (3,) * len(book[0]), tuple(5 * (kind in living(book)) for kind in book[0])):
+        told += [least(book, numbers), stands(book, numbers)]
+        try:
+            told += [raises_to(book, numbers), raised(book, raises_to(book, numbers))]
+        except NoneStand:
+            told.append(None)
     return told
 
 
@@ -159,7 +187,9 @@ class WhatIsTold(unittest.TestCase):
                              (is_ring, "rings"), (product, "rings"), (rings_of, "rings"), (Finder, "finders"),
                              (Plainly, "finders"), (ByRounds, "finders"), (finder, "finders"), (right_bare, "bare"),
                              (bare_by, "bare"), (bare_paper, "bare"), (living, "bare"), (right_long, "turned"),
-                             (long_row, "turned"), (lot_of, "turned")):
+                             (long_row, "turned"), (lot_of, "turned"), (is_row, "rows"), (above, "rows"), (row_to, "rows"),
+                             (dealt, "dealing"), (stands, "numbers"), (least, "least"), (right_raises, "least"),
+                             (raised, "least"), (raises_to, "least"), (next_number, "least")):
             self.assertEqual(told.__module__, "fankinds." + module)
 
 
