@@ -1,7 +1,13 @@
 """Numbers of rooms, one for each kind, and whether a house that ends has them."""
 
 from fankinds.books import SIDES, end_of, fan_at, other_side
+from fankinds.forms import is_number, is_tuple_of
 from fankinds.steps import steps_of
+
+
+def are_numbers(book, thing):
+    """Whether anything is a tuple with a number from 0 on for each kind."""
+    return is_tuple_of(thing, len(book[0])) and all([is_number(number) and number >= 0 for number in thing])
 
 
 def by_kind(book, numbers):

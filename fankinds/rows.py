@@ -1,5 +1,7 @@
 """Rows of rules: what holds in every house."""
 
+from fankinds.forms import is_lot
+
 
 def is_row(book, low, high, thing):
     """Whether anything is a row from low to high."""
@@ -40,3 +42,8 @@ def rows_by(links, low):
                 fresh.append(link[2])
         last = fresh
     return rows
+
+
+def is_full_lot(book, thing):
+    """Whether anything is a lot of the book that has with each rule's low its high."""
+    return is_lot(book, thing) and all([high in thing for low, high in book[1] if low in thing])

@@ -30,6 +30,11 @@ def rule_step(book, low, high):
     return book[1].index((low, high))
 
 
+def steps_by(book, name):
+    """The numbers of the steps of the door of that name."""
+    return [at for at, step in enumerate(steps_of(book)) if step[4][1:] == (name,)]
+
+
 def ones_of(steps, numbers):
     """The ones of the steps with these numbers."""
     return [steps[at][0] for at in numbers]

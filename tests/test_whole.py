@@ -7,14 +7,18 @@ import unittest
 from fankinds.bare import bare_by, bare_paper, living, right_bare
 from fankinds.books import fan_of, is_book
 from fankinds.dealing import dealt
-from fankinds.errors import NoneStand
+from fankinds.errors import FanError, NoneStand
+from fankinds.exact import fan_paper, fans, right_fan_paper
 from fankinds.finders import ByRounds, Finder, Plainly, finder
 from fankinds.forms import is_fan, is_lot, is_name
 from fankinds.houses import counts, is_house, wrong_in
 from fankinds.least import least, next_number, raised, raises_to, right_raises
 from fankinds.numbers import stands
+from fankinds.parting import parted, parting, right_parting
+from fankinds.plans import plan_of, right_plan
 from fankinds.rings import is_ring, product, rings_of
 from fankinds.rows import above, is_row, row_to
+from fankinds.spare import right_spare, spare
 from fankinds.steps import steps_of
 from fankinds.turned import long_row, lot_of, right_long
 from tests.samples import all_tuples, balanced_books, nested, odd_things, random_books, subsets
@@ -26,6 +30,7 @@ BOOK = (
     (("x", "a", "b", (2, 2), (1, 1)), ("y", "d", "d", (4, 4), (3, 3)), ("z", "a", "c", (1, 1), (1, 1))),
 )
 EVEN = balanced_books(71, 1)[0]
+FREE = (("a", "b", "c"), (("a", "b"),), (("x", "b", "c", (1, 2), (1, 1)),))
 JUDGES = {
     "is_name": is_name,
     "is_fan": is_fan,
@@ -37,6 +42,10 @@ JUDGES = {
     "right_long": lambda thing: right_long(BOOK, "a", "b", thing),
     "is_row": lambda thing: is_row(BOOK, "a", "c", thing),
     "right_raises": lambda thing: right_raises(BOOK, (1, 0, 0, 2), thing),
+    "right_plan": lambda thing: right_plan(BOOK, "d", "a", thing),
+    "right_fan_paper": lambda thing: right_fan_paper(BOOK, "x", thing),
+    "right_spare": lambda thing: right_spare(FREE, thing),
+    "right_parting": lambda thing: right_parting(FREE, "b", "a", thing),
 }
 # Right raises, though none of the kinds are living and no numbers stand.
 RAISES = (
@@ -80,7 +89,8 @@ def right_things():
     house = ((("a", "b", "c", "d"), ("d",)), (("x", 0, 0), ("y", 1, 1)))
     told = [BOOK, house, bare_paper(BOOK), steps_of(BOOK), rings_of(BOOK), (("rule", "a", "b"),), ("a", "b"), (1, 2)]
     told += [("turned", "b", "a", (0, 1, 2)), (("rule", "a", "b"), ("turned", "b", "a", (0, 1, 2)), ("rule", "a", "b"))]
-    told += [("a", "b", "c"), ("a",), RAISES, (1, 0, 0, 2)]
+    told += [("a", "b", "c"), ("a",), RAISES, (1, 0, 0, 2), plan_of(BOOK, "d", "a"), fan_paper(BOOK, "x"), spare(FREE)]
+    told += [parting(FREE, "b", "a"), parted(FREE, "b", "a"), fans(BOOK)]
     return told + list(rings_of(BOOK))
 
 
@@ -140,7 +150,8 @@ def all_told(book, house):
     told += [long_row(book, low, high) for low in living(book) for high in book[0]]
     told += [above(book, low) for low in book[0]] + [row_to(book, low, high) for low in book[0] for high in book[0]]
     told += [dealt(tuple(range(9)), tuple(range(7, 16)), door[3], door[3]) for door in book[2]]
-    told += numbers_told(book)
+    told += numbers_told(book) + [fans(book), spare(book)] + [fan_paper(book, door[0]) for door in book[2]]
+    told += [kinds_told(book, low, high) for low in book[0] for high in book[0]]
     for seeker in (Finder(book), Plainly(book), ByRounds(book), finder(book)):
         for lot in subsets(book[0]):
             told += [seeker.below(lot), seeker.below(lot)]
@@ -159,6 +170,17 @@ def numbers_told(book):
         except NoneStand:
             told.append(None)
     return told
+
+
+def kinds_told(book, low, high):
+    """All that is asked of two kinds, with its answers; of what is refused the class's name and its field."""
+    told = [parting(book, low, high)]
+    for ask in (plan_of, parted):
+        try:
+            told.append(ask(book, low, high))
+        except FanError as refusal:
+            told.append((refusal.__class__.__name__,) + tuple(vars(refusal).values()))
+    return tuple(told)
 
 
 class WhatIsTold(unittest.TestCase):
@@ -189,7 +211,10 @@ class WhatIsTold(unittest.TestCase):
                              (bare_by, "bare"), (bare_paper, "bare"), (living, "bare"), (right_long, "turned"),
                              (long_row, "turned"), (lot_of, "turned"), (is_row, "rows"), (above, "rows"), (row_to, "rows"),
                              (dealt, "dealing"), (stands, "numbers"), (least, "least"), (right_raises, "least"),
-                             (raised, "least"), (raises_to, "least"), (next_number, "least")):
+                             (raised, "least"), (raises_to, "least"), (next_number, "least"), (right_plan, "plans"),
+                             (plan_of, "plans"), (fans, "exact"), (fan_paper, "exact"), (right_fan_paper, "exact"),
+                             (spare, "spare"), (right_spare, "spare"), (right_parting, "parting"), (parting, "parting"),
+                             (parted, "parting")):
             self.assertEqual(told.__module__, "fankinds." + module)
 
 
