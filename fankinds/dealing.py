@@ -3,17 +3,26 @@
 
 def dealt(ones, others, out, into):
     """The fewest pairs (one, other), rising, that give each as many as its fan tells, where there are such."""
+    return tuple(sorted(dealt_beside((), (), ones, others, out, into)))
+
+
+def dealt_beside(few, less, ones, others, out, into):
+    """Fewest pairs that give each of the ones and others as many as its fan tells, and each of few and less one.
+
+    Few are tied to others, less to ones: neither are more than these, and a room stands there as often as it lacks.
+    """
     if len(ones) == 0 or len(others) == 0:
-        return ()
-    many = max(out[0] * len(ones), into[0] * len(others))
-    each, more = divmod(many, len(ones))
-    pairs = []
+        return []
+    pairs = list(zip(few, others)) + list(zip(ones, less))
+    many = max(out[0] * len(ones) + len(few), into[0] * len(others) + len(less))
+    each, more = divmod(many - len(few), len(ones))
+    first = len(few)
     for place, one in enumerate(ones):
-        first = len(pairs)
-        share = each + 1 if place < more else each
+        last = first + each + (1 if place < more else 0) - (1 if place < len(less) else 0)
         # The others are gone through round and round: so their shares are even too, and none comes twice to one.
-        pairs.extend([(one, others[at % len(others)]) for at in range(first, first + share)])
-    return tuple(sorted(pairs))
+        pairs.extend([(one, others[at % len(others)]) for at in range(first, last)])
+        first = last
+    return pairs
 
 
 def nested_rooms(book, numbers):

@@ -44,6 +44,12 @@ def lot_of(book, kind):
     return tuple(sorted(long_rows(book, kind)))
 
 
+def living_lots(book):
+    """For each living kind the kinds to which long rows lead from it."""
+    links = links_of(book)
+    return {kind: list(rows_by(links, kind)) for kind in living(book)}
+
+
 def long_rows(book, low):
     """For each kind to which long rows lead from low, which is living, one of fewest links."""
     return rows_by(links_of(book), low)

@@ -218,3 +218,56 @@ def wheel_book(rand):
 def wheel_books(seed, many):
     rand = random.Random(seed)
     return [wheel_book(rand) for _ in range(many)]
+
+
+def random_begun(rand, book, lots, most):
+    """A begun house of at most so many rooms, each of one of these lots, with ways by chance between them."""
+    many = rand.randint(0, most) if lots else 0
+    rooms = tuple(rand.choice(lots) for _ in range(many))
+    ways = set()
+    doors = [rand.choice(book[2])[0] for _ in range(3)] if book[2] and many else []
+    tops = rand.choice(((many, many), (1, many), (many, 1), (2, many), (many, 2)))
+    for _ in range(rand.randint(0, 3 * many) if doors else 0):
+        ways.add((rand.choice(doors), rand.randrange(min(many, tops[0])), rand.randrange(min(many, tops[1]))))
+    return (rooms, tuple(sorted(ways)))
+
+
+def thinned(rand, house, bar):
+    """The begun house without ways that bar it, as that function tells it; a room of a bare kind may be left."""
+    found = bar(house)
+    while found is not None:
+        rooms, ways = house
+        room = found[1] if found[0] == "bare" else found[2]
+        at_it = [way for way in ways if room in way[1:] and (found[0] == "bare" or way[0] == found[1])]
+        if not at_it:
+            return house
+        left = rand.choice(at_it)
+        house = (rooms, tuple(way for way in ways if way != left))
+        found = bar(house)
+    return house
+
+
+def turning_book(rand):
+    """A book of few rules, most of which doors with just as many ways out as into turn about."""
+    names = tuple(LETTERS[:rand.randint(2, 6)])
+    pairs = list(itertools.permutations(names, 2))
+    rules = tuple(sorted(rand.sample(pairs, min(len(pairs), rand.randint(1, 5)))))
+    doors = []
+    for name in "stuvwx"[:rand.randint(1, 6)]:
+        many = rand.randint(1, 4)
+        ahead = (many, rand.choice([None] + list(range(many, 5))))
+        behind = (rand.randint(0, many), many)
+        high, low = rand.choice(rules)[::-1] if rand.random() < 0.7 else rand.choice(pairs)
+        doors.append((name, high, low, ahead, behind) if rand.random() < 0.5 else (name, low, high, behind, ahead))
+    return (names, rules, tuple(doors))
+
+
+def turning_books(seed, many):
+    rand = random.Random(seed)
+    return [turning_book(rand) for _ in range(many)]
+
+
+def mixed_books(seed, many):
+    """Books of several makes: drawn, without bare kinds and with rings of product 1, and full ones."""
+    books = random_books(seed, many) + random_books(seed + 1, many, rules=3, doors=3) + balanced_books(seed + 2, 2 * many)
+    return books + turning_books(seed + 3, 2 * many) + wheel_books(seed + 4, max(1, many // 10))
