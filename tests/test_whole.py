@@ -4,13 +4,18 @@ import copy
 import random
 import unittest
 
+from fankinds.answers import answer, right_answer
 from fankinds.bare import bare_by, bare_paper, living, right_bare
+from fankinds.begun import bar, grown
 from fankinds.books import fan_of, is_book
+from fankinds.building import built
 from fankinds.dealing import dealt
 from fankinds.errors import FanError, NoneStand
 from fankinds.exact import fan_paper, fans, right_fan_paper
 from fankinds.finders import ByRounds, Finder, Plainly, finder
+from fankinds.finish import finish_numbers, finished
 from fankinds.forms import is_fan, is_lot, is_name
+from fankinds.halls import Hall
 from fankinds.houses import counts, is_house, wrong_in
 from fankinds.least import least, next_number, raised, raises_to, right_raises
 from fankinds.numbers import stands
@@ -46,6 +51,9 @@ JUDGES = {
     "right_fan_paper": lambda thing: right_fan_paper(BOOK, "x", thing),
     "right_spare": lambda thing: right_spare(FREE, thing),
     "right_parting": lambda thing: right_parting(FREE, "b", "a", thing),
+    "right_answer": lambda thing: right_answer(BOOK, "d", "a", thing),
+    "right_answer of ever": lambda thing: right_answer(BOOK, "a", "c", thing),
+    "right_answer of not": lambda thing: right_answer(FREE, "b", "a", thing),
 }
 # Right raises, though none of the kinds are living and no numbers stand.
 RAISES = (
@@ -91,6 +99,7 @@ def right_things():
     told += [("turned", "b", "a", (0, 1, 2)), (("rule", "a", "b"), ("turned", "b", "a", (0, 1, 2)), ("rule", "a", "b"))]
     told += [("a", "b", "c"), ("a",), RAISES, (1, 0, 0, 2), plan_of(BOOK, "d", "a"), fan_paper(BOOK, "x"), spare(FREE)]
     told += [parting(FREE, "b", "a"), parted(FREE, "b", "a"), fans(BOOK)]
+    told += [answer(BOOK, "d", "a"), answer(BOOK, "a", "c"), answer(FREE, "b", "a"), answer(FREE, "a", "b")]
     return told + list(rings_of(BOOK))
 
 
@@ -152,6 +161,8 @@ def all_told(book, house):
     told += [dealt(tuple(range(9)), tuple(range(7, 16)), door[3], door[3]) for door in book[2]]
     told += numbers_told(book) + [fans(book), spare(book)] + [fan_paper(book, door[0]) for door in book[2]]
     told += [kinds_told(book, low, high) for low in book[0] for high in book[0]]
+    told += [built(book, numbers) for numbers in ((0,) * len(book[0]), spare(book)) if max(numbers) <= 300]
+    told += [grown(book, house), bar(book, house)] + [refused_or_told(ask, book, house) for ask in (finish_numbers, finished)]
     for seeker in (Finder(book), Plainly(book), ByRounds(book), finder(book)):
         for lot in subsets(book[0]):
             told += [seeker.below(lot), seeker.below(lot)]
@@ -173,14 +184,17 @@ def numbers_told(book):
 
 
 def kinds_told(book, low, high):
-    """All that is asked of two kinds, with its answers; of what is refused the class's name and its field."""
-    told = [parting(book, low, high)]
-    for ask in (plan_of, parted):
-        try:
-            told.append(ask(book, low, high))
-        except FanError as refusal:
-            told.append((refusal.__class__.__name__,) + tuple(vars(refusal).values()))
-    return tuple(told)
+    """All that is asked of two kinds, with its answers."""
+    told = [parting(book, low, high), answer(book, low, high)]
+    return tuple(told + [refused_or_told(ask, book, low, high) for ask in (plan_of, parted)])
+
+
+def refused_or_told(ask, *things):
+    """What is told; of what is refused the class's name and its field."""
+    try:
+        return ask(*things)
+    except FanError as refusal:
+        return (refusal.__class__.__name__,) + tuple(vars(refusal).values())
 
 
 class WhatIsTold(unittest.TestCase):
@@ -214,7 +228,9 @@ class WhatIsTold(unittest.TestCase):
                              (raised, "least"), (raises_to, "least"), (next_number, "least"), (right_plan, "plans"),
                              (plan_of, "plans"), (fans, "exact"), (fan_paper, "exact"), (right_fan_paper, "exact"),
                              (spare, "spare"), (right_spare, "spare"), (right_parting, "parting"), (parting, "parting"),
-                             (parted, "parting")):
+                             (parted, "parting"),
+                             (built, "building"), (answer, "answers"), (right_answer, "answers"), (grown, "begun"), (bar, "begun"),
+                             (finish_numbers, "finish"), (finished, "finish"), (Hall, "halls")):
             self.assertEqual(told.__module__, "fankinds." + module)
 
 
