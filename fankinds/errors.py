@@ -1,4 +1,4 @@
-"""The refusals, one class for each kind."""
+"""The refusals, one class for each kind; the message of each is the class's own name, as a desk tells it."""
 
 
 class FanError(ValueError):
@@ -8,9 +8,15 @@ class FanError(ValueError):
 class BadBook(FanError):
     """What was handed in is no book."""
 
+    def __str__(self):
+        return "BadBook"
+
 
 class BadName(FanError):
     """What was handed in is no name."""
+
+    def __str__(self):
+        return "BadName"
 
 
 class BadFan(FanError):
@@ -19,17 +25,29 @@ class BadFan(FanError):
     def __init__(self, side):
         self.side = side
 
+    def __str__(self):
+        return "BadFan"
+
 
 class BadSide(FanError):
     """What was handed in is neither out nor into."""
+
+    def __str__(self):
+        return "BadSide"
 
 
 class BadLot(FanError):
     """What was handed in is no lot of the book's kinds."""
 
+    def __str__(self):
+        return "BadLot"
+
 
 class BadDeeds(FanError):
     """What was handed in is no tuple of deeds."""
+
+    def __str__(self):
+        return "BadDeeds"
 
 
 class HasRow(FanError):
@@ -38,6 +56,9 @@ class HasRow(FanError):
     def __init__(self, row):
         self.row = row
 
+    def __str__(self):
+        return "HasRow"
+
 
 class TooGreat(FanError):
     """There would be more rooms than the bound."""
@@ -45,17 +66,29 @@ class TooGreat(FanError):
     def __init__(self, bound):
         self.bound = bound
 
+    def __str__(self):
+        return "TooGreat"
+
 
 class NoneStand(FanError):
     """No numbers from the told ones on stand."""
+
+    def __str__(self):
+        return "NoneStand"
 
 
 class NoParting(FanError):
     """Every room of the one kind, in every house that ends, is of the other."""
 
+    def __str__(self):
+        return "NoParting"
+
 
 class NoCore(FanError):
     """The one kind doesn't lie within the other, so that nothing makes it so."""
+
+    def __str__(self):
+        return "NoCore"
 
 
 class Barred(FanError):
@@ -64,6 +97,9 @@ class Barred(FanError):
     def __init__(self, bar):
         self.bar = bar
 
+    def __str__(self):
+        return "Barred"
+
 
 class NoKind(FanError):
     """The book has no such kind."""
@@ -71,9 +107,15 @@ class NoKind(FanError):
     def __init__(self, name):
         self.name = name
 
+    def __str__(self):
+        return "NoKind"
+
 
 class NoRule(FanError):
     """The book has no such rule."""
+
+    def __str__(self):
+        return "NoRule"
 
 
 class NoDoor(FanError):
@@ -82,6 +124,9 @@ class NoDoor(FanError):
     def __init__(self, name):
         self.name = name
 
+    def __str__(self):
+        return "NoDoor"
+
 
 class NoRoom(FanError):
     """The house has no such room."""
@@ -89,9 +134,15 @@ class NoRoom(FanError):
     def __init__(self, room):
         self.room = room
 
+    def __str__(self):
+        return "NoRoom"
+
 
 class NoWay(FanError):
     """The house has no such way."""
+
+    def __str__(self):
+        return "NoWay"
 
 
 class Taken(FanError):
@@ -100,13 +151,22 @@ class Taken(FanError):
     def __init__(self, thing):
         self.thing = thing
 
+    def __str__(self):
+        return "Taken"
+
 
 class Same(FanError):
     """A rule is of two unlike kinds."""
 
+    def __str__(self):
+        return "Same"
+
 
 class InUse(FanError):
     """Something else needs it."""
+
+    def __str__(self):
+        return "InUse"
 
 
 class Full(FanError):
@@ -115,17 +175,29 @@ class Full(FanError):
     def __init__(self, bound):
         self.bound = bound
 
+    def __str__(self):
+        return "Full"
+
 
 class Long(FanError):
     """As many deeds stand as may."""
+
+    def __str__(self):
+        return "Long"
 
 
 class NothingBack(FanError):
     """No deed stands that could be undone."""
 
+    def __str__(self):
+        return "NothingBack"
+
 
 class Busy(FanError):
     """The hall is amid deeds that are tried."""
+
+    def __str__(self):
+        return "Busy"
 
 
 class Broken(FanError):
@@ -134,6 +206,9 @@ class Broken(FanError):
     def __init__(self, at):
         self.at = at
 
+    def __str__(self):
+        return "Broken"
+
 
 class NoText(FanError):
     """From that line on it is the text of nothing; None where it is no text at all."""
@@ -141,6 +216,12 @@ class NoText(FanError):
     def __init__(self, at):
         self.at = at
 
+    def __str__(self):
+        return "NoText"
+
 
 class TooTold(FanError):
     """The number told is above the bound."""
+
+    def __str__(self):
+        return "TooTold"

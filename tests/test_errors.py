@@ -47,6 +47,10 @@ class Errors(unittest.TestCase):
                 self.assertEqual(vars(getattr(errors, name)()), {})
         self.assertIsInstance(FanError(), ValueError)
 
+    def test_the_message_is_the_name(self):
+        for name, field in FIELDS.items():
+            self.assertEqual(str(getattr(errors, name)(*([7] if field else []))), name)
+
     def test_caught_by_the_one(self):
         for name, field in FIELDS.items():
             for caught in (FanError, ValueError, getattr(errors, name)):

@@ -9,7 +9,9 @@ from fankinds.bare import bare_by, bare_paper, living, right_bare
 from fankinds.begun import bar, grown
 from fankinds.books import fan_of, is_book
 from fankinds.building import built
+from fankinds.cores import core, right_core
 from fankinds.dealing import dealt
+from fankinds.desks import Desk
 from fankinds.errors import FanError, NoneStand
 from fankinds.exact import fan_paper, fans, right_fan_paper
 from fankinds.finders import ByRounds, Finder, Plainly, finder
@@ -18,6 +20,7 @@ from fankinds.forms import is_fan, is_lot, is_name
 from fankinds.halls import Hall
 from fankinds.houses import counts, is_house, wrong_in
 from fankinds.least import least, next_number, raised, raises_to, right_raises
+from fankinds.most import most
 from fankinds.numbers import stands
 from fankinds.parting import parted, parting, right_parting
 from fankinds.plans import plan_of, right_plan
@@ -25,7 +28,9 @@ from fankinds.rings import is_ring, product, rings_of
 from fankinds.rows import above, is_row, row_to
 from fankinds.spare import right_spare, spare
 from fankinds.steps import steps_of
+from fankinds.texts import book_text, house_text, read_book, read_house
 from fankinds.turned import long_row, lot_of, right_long
+from fankinds.unfolding import unfolded
 from tests.samples import all_tuples, balanced_books, nested, odd_things, random_books, subsets
 from tests.test_houses import random_house
 
@@ -54,6 +59,7 @@ JUDGES = {
     "right_answer": lambda thing: right_answer(BOOK, "d", "a", thing),
     "right_answer of ever": lambda thing: right_answer(BOOK, "a", "c", thing),
     "right_answer of not": lambda thing: right_answer(FREE, "b", "a", thing),
+    "right_core": lambda thing: right_core(BOOK, "d", "a", thing),
 }
 # Right raises, though none of the kinds are living and no numbers stand.
 RAISES = (
@@ -100,6 +106,7 @@ def right_things():
     told += [("a", "b", "c"), ("a",), RAISES, (1, 0, 0, 2), plan_of(BOOK, "d", "a"), fan_paper(BOOK, "x"), spare(FREE)]
     told += [parting(FREE, "b", "a"), parted(FREE, "b", "a"), fans(BOOK)]
     told += [answer(BOOK, "d", "a"), answer(BOOK, "a", "c"), answer(FREE, "b", "a"), answer(FREE, "a", "b")]
+    told += [core(BOOK, "d", "a"), core(BOOK, "a", "c")]
     return told + list(rings_of(BOOK))
 
 
@@ -119,6 +126,14 @@ class OfAnything(unittest.TestCase):
     def test_odd_things(self):
         for thing in odd_things():
             self.ask(thing)
+
+    def test_said_to_a_desk(self):
+        rand = random.Random(77)
+        desk = Desk(Hall(BOOK))
+        for thing in odd_things() + [random_thing(rand, 4) for _ in range(400)] + right_things() + [desk, Hall(BOOK), BOOK]:
+            kept = repr(thing)
+            self.assertEqual(desk.say(thing), "no line")
+            self.assertEqual(repr(thing), kept)
 
     def test_things_by_chance(self):
         rand = random.Random(72)
@@ -148,6 +163,13 @@ class OfAnything(unittest.TestCase):
                 self.assertIs(judge(made(BOOK)), False)
                 self.assertIs(judge((made(BOOK),)), False)
 
+    def test_what_halls_and_desks_are(self):
+        for thing in (Hall(BOOK), Desk(Hall(BOOK))):
+            for judge in JUDGES.values():
+                self.assertIs(judge(thing), False)
+                self.assertIs(judge((thing, thing)), False)
+                self.assertIs(judge((thing, thing, thing)), False)
+
 
 def all_told(book, house):
     """All that is asked of a book, with its answers."""
@@ -162,6 +184,8 @@ def all_told(book, house):
     told += numbers_told(book) + [fans(book), spare(book)] + [fan_paper(book, door[0]) for door in book[2]]
     told += [kinds_told(book, low, high) for low in book[0] for high in book[0]]
     told += [built(book, numbers) for numbers in ((0,) * len(book[0]), spare(book)) if max(numbers) <= 300]
+    told += [most(book, told_most) for told_most in ((None,) * len(book[0]), (7,) * len(book[0]))]
+    told += [book_text(book), read_book(book_text(book)), house_text(house), read_house(book, house_text(house))]
     told += [grown(book, house), bar(book, house)] + [refused_or_told(ask, book, house) for ask in (finish_numbers, finished)]
     for seeker in (Finder(book), Plainly(book), ByRounds(book), finder(book)):
         for lot in subsets(book[0]):
@@ -186,7 +210,9 @@ def numbers_told(book):
 def kinds_told(book, low, high):
     """All that is asked of two kinds, with its answers."""
     told = [parting(book, low, high), answer(book, low, high)]
-    return tuple(told + [refused_or_told(ask, book, low, high) for ask in (plan_of, parted)])
+    if row_to(book, low, high) is None:
+        told += [refused_or_told(unfolded, book, plan_of(book, low, high), deep) for deep in (0, 2, 6)]
+    return tuple(told + [refused_or_told(ask, book, low, high) for ask in (plan_of, parted, core)])
 
 
 def refused_or_told(ask, *things):
@@ -230,7 +256,9 @@ class WhatIsTold(unittest.TestCase):
                              (spare, "spare"), (right_spare, "spare"), (right_parting, "parting"), (parting, "parting"),
                              (parted, "parting"),
                              (built, "building"), (answer, "answers"), (right_answer, "answers"), (grown, "begun"), (bar, "begun"),
-                             (finish_numbers, "finish"), (finished, "finish"), (Hall, "halls")):
+                             (finish_numbers, "finish"), (finished, "finish"), (Hall, "halls"), (unfolded, "unfolding"), (most, "most"),
+                             (core, "cores"), (right_core, "cores"), (book_text, "texts"), (house_text, "texts"), (read_book, "texts"),
+                             (read_house, "texts"), (Desk, "desks")):
             self.assertEqual(told.__module__, "fankinds." + module)
 
 
