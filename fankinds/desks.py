@@ -72,8 +72,8 @@ def said_in(line):
     if word not in SHAPES:
         return None
     shape = SHAPES[word]
-    if word == "put" and len(others) > 1:
-        shape = shape * len(others)
+    if word == "put":
+        shape = shape * max(1, len(others))
     if len(shape) != len(others):
         return None
     things = [thing_in(sort, other) for sort, other in zip(shape, others)]

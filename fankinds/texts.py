@@ -72,12 +72,11 @@ def read_house(book, text):
     ways = []
     for at, line in enumerate(lines[:-1]):
         words = line.split(" ")
-        lot = tuple(words[1:])
-        way = way_in(words)
+        lot, way = tuple(words[1:]), way_in(words)
         # Rooms stand ahead of ways, so that their numbers are known by then.
         if words[0] == "room" and len(ways) == 0 and len(rooms) < ROOMS and is_lot(book, lot):
             rooms.append(lot)
-        elif way is not None and is_next_way(book, len(rooms), ways, way):
+        elif is_next_way(book, len(rooms), ways, way):
             ways.append(way)
         else:
             raise NoText(at)
@@ -94,5 +93,5 @@ def way_in(words):
 
 
 def is_next_way(book, many, ways, way):
-    """Whether this is a way between so many rooms that can follow on these ways."""
+    """Whether this, perhaps None, is a way between so many rooms that can follow on these ways."""
     return is_way([door[0] for door in book[2]], many, way) and (len(ways) == 0 or ways[-1] < way)
