@@ -1,12 +1,12 @@
 """Begun houses finished: how many rooms of each kind that takes, and a house with just so many."""
 
+from fankinds.bare import living
 from fankinds.begun import bar, grown
 from fankinds.books import SIDES, end_of, fan_at, other_side
 from fankinds.bounds import FAN, ROOMS
 from fankinds.dealing import dealt_beside, nested_rooms, rooms_of
 from fankinds.errors import Barred, TooGreat
 from fankinds.exact import fans
-from fankinds.bare import living
 from fankinds.houses import counts, ways_at
 from fankinds.least import raised
 from fankinds.numbers import by_kind
